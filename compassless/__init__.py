@@ -1,0 +1,1 @@
+"""Compassless: nameless robots on a floor, and the figures they can be brought to."""

@@ -1,0 +1,105 @@
+"""What DOC.md's interface lists, as far as it has landed: file by file, name by name."""
+
+import importlib
+
+ERRORS = {
+    "FloorError": {
+        "PaperError": {"InvalidPaper": ("word", "at")},
+        "WorldError": {
+            "NotUsable": ("word", "at"),
+            "NoCentre": ("total",),
+            "NotUneven": ("told",),
+            "NotHeld": ("told",),
+            "NotPinned": ("told",),
+            "NotFit": ("told",),
+            "NotMeeting": ("told",),
+            "TooMany": ("limit",),
+        },
+        "LiveError": {
+            "Blocked": ("place",),
+            "Clash": ("robot",),
+            "InvalidEvent": ("event", "reason"),
+            "NothingToUndo": ("steps",),
+        },
+        "TextError": {
+            "InvalidText": ("line", "field"),
+            "InvalidRule": ("line", "word", "reason"),
+            "InvalidLine": ("word",),
+            "NoName": ("name",),
+        },
+    }
+}
+
+FUNCTIONS = {
+    "kinds": ["is_place(thing)", "is_step(thing)", "is_motion(thing)", "is_row(thing)", "is_standing(thing)"],
+    "turns": ["turned(turn, place)", "cone_turn(place)"],
+    "motions": [
+        "moved(motion, place)",
+        "behind(motion, other)",
+        "back(motion)",
+        "carried(motion, standing)",
+        "carried_row(motion, row)",
+    ],
+    "matching": ["motion_of(row, other)"],
+    "standings": [
+        "standing_of(*places)",
+        "standing_by(row)",
+        "box_of(standing)",
+        "side_of(standing)",
+        "lets_row(thing)",
+    ],
+    "drawings": ["read_drawing(text)", "show_drawing(standing)"],
+    "placetexts": ["place_line(row)", "read_places(text)"],
+    "centres": [
+        "sum_of(standing)",
+        "twice_centre(standing)",
+        "about(twice, turn, place)",
+        "kept_by(standing, turn)",
+    ],
+    "folds": ["fold_of(standing)", "kind_of(standing)", "class_of(standing)"],
+    "orbits": ["orbits_of(standing)", "orbit_of(standing, place)"],
+    "forms": [
+        "shifted(standing)",
+        "form_of(standing)",
+        "placer_of(standing)",
+        "alike(standing, other)",
+        "carrier_of(standing, other)",
+    ],
+    "views": ["view_of(standing, place, frame)", "lookalikes(standing, place)"],
+}
+
+CLASSES = {
+    "floorclasses": {
+        "Motion": [
+            "__init__(self, turn, a, b)",
+            "at(self, place)",
+            "of(self, standing)",
+            "back(self)",
+            "told(self)",
+            "__mul__(self, other)",
+            "__eq__(self, other)",
+        ],
+    },
+}
+
+
+def listed():
+    """A dict from each listed name, errors included, to what the package has under it."""
+    found = {}
+    for file, heads in FUNCTIONS.items():
+        module = importlib.import_module("compassless." + file)
+        for head in heads:
+            name = head.partition("(")[0]
+            found[name] = getattr(module, name)
+    for file, classes in CLASSES.items():
+        module = importlib.import_module("compassless." + file)
+        for name in classes:
+            found[name] = getattr(module, name)
+    module = importlib.import_module("compassless.errors")
+    for base, families in ERRORS.items():
+        found[base] = getattr(module, base)
+        for family, errors in families.items():
+            found[family] = getattr(module, family)
+            for name in errors:
+                found[name] = getattr(module, name)
+    return found

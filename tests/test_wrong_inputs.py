@@ -1,0 +1,151 @@
+"""[2] and [12]: each parameter alone, in twos and all at once, by position and by name.
+
+The first parameter that is not as stated is named, and what was passed stays as it was.
+"""
+
+import itertools
+import unittest
+
+from compassless.errors import NotUsable
+from compassless.floorclasses import Motion
+from tests.interface import FUNCTIONS, listed
+from tests.samples import (
+    BAD_MOTIONS,
+    BAD_PLACES,
+    BAD_ROWS,
+    BAD_STANDINGS,
+    BAD_TEXTS,
+    BAD_TURNS,
+    ELL,
+    ZIG,
+)
+
+# True and False where 1 and 0 stand in a place of the standing, too.
+NOT_IN_ZIG = BAD_PLACES + [(5, 5), (0, 1), (True, 0), (0, False), (False, False), ZIG]
+
+STANDING = (ZIG, BAD_STANDINGS)
+PLACE = ((3, -4), BAD_PLACES)
+TURN = (2, BAD_TURNS)
+MOTION = ((1, 3, 0), BAD_MOTIONS)
+ROW = (((1, 0), (0, 0)), BAD_ROWS)
+IN_ZIG = ((2, 1), NOT_IN_ZIG)
+
+
+def params(**given):
+    return [(name, good, bad) for name, (good, bad) in given.items()]
+
+
+# For each function its parameters in their order: a value as stated, and others that are not.
+CALLS = {
+    "turned": params(turn=TURN, place=PLACE),
+    "cone_turn": params(place=((3, -4), BAD_PLACES + [(0, 0)])),
+    "moved": params(motion=MOTION, place=PLACE),
+    "behind": params(motion=MOTION, other=MOTION),
+    "back": params(motion=MOTION),
+    "carried": params(motion=MOTION, standing=STANDING),
+    "carried_row": params(motion=MOTION, row=ROW),
+    "motion_of": params(row=ROW, other=ROW),
+    "standing_by": params(row=ROW),
+    "box_of": params(standing=STANDING),
+    "side_of": params(standing=STANDING),
+    "read_drawing": params(text=("oo", BAD_TEXTS)),
+    "show_drawing": params(standing=STANDING),
+    "place_line": params(row=ROW),
+    "read_places": params(text=("(0,0) (1,0)", BAD_TEXTS)),
+    "sum_of": params(standing=STANDING),
+    "twice_centre": params(standing=STANDING),
+    "about": params(twice=PLACE, turn=TURN, place=PLACE),
+    "kept_by": params(standing=STANDING, turn=TURN),
+    "fold_of": params(standing=STANDING),
+    "kind_of": params(standing=STANDING),
+    "class_of": params(standing=STANDING),
+    "orbits_of": params(standing=STANDING),
+    "orbit_of": params(standing=STANDING, place=IN_ZIG),
+    "shifted": params(standing=STANDING),
+    "form_of": params(standing=STANDING),
+    "placer_of": params(standing=STANDING),
+    "alike": params(standing=STANDING, other=(ELL, BAD_STANDINGS)),
+    "carrier_of": params(standing=STANDING, other=(ELL, BAD_STANDINGS)),
+    "view_of": params(standing=STANDING, place=IN_ZIG, frame=TURN),
+    "lookalikes": params(standing=STANDING, place=IN_ZIG),
+}
+
+# These take any thing, or any number of arguments, and have tests of their own.
+ELSEWHERE = "is_place is_step is_motion is_row is_standing lets_row standing_of".split()
+
+
+class WrongInputs(unittest.TestCase):
+    def refused(self, call, word, names, values):
+        """The call names this parameter, by position and by name, and changes nothing."""
+        shown = repr(values)
+        named = dict(reversed(list(zip(names, values))))
+        for given, more in ((values, {}), ((), named), (values[:1], dict(zip(names[1:], values[1:])))):
+            with self.assertRaises(NotUsable, msg=shown) as caught:
+                call(*given, **more)
+            self.assertEqual(vars(caught.exception), {"word": word, "at": -1}, shown)
+            self.assertIs(type(caught.exception), NotUsable)
+        self.assertEqual(repr(values), shown)
+
+    def test_every_function_is_there(self):
+        heads = [head for found in FUNCTIONS.values() for head in found]
+        for head in heads:
+            name, _, rest = head.partition("(")
+            if name in CALLS:
+                names = ", ".join(param for param, _, _ in CALLS[name])
+                self.assertEqual(rest, names + ")")
+            else:
+                self.assertIn(name, ELSEWHERE)
+
+    def test_as_stated(self):
+        for name, wanted in CALLS.items():
+            call = listed()[name]
+            goods = {param: good for param, good, _ in wanted}
+            shown = repr(goods)
+            first = call(*goods.values())
+            self.assertEqual(repr(call(**goods)), repr(first))
+            self.assertEqual(repr(goods), shown)
+
+    def test_alone(self):
+        for name, wanted in CALLS.items():
+            call = listed()[name]
+            names = [param for param, _, _ in wanted]
+            for k, (param, _, bads) in enumerate(wanted):
+                for bad in bads + [Motion(0, 0, 0)]:
+                    values = [good for _, good, _ in wanted]
+                    values[k] = bad
+                    with self.subTest(f"{name} {param}"):
+                        self.refused(call, param, names, values)
+
+    def test_in_twos(self):
+        for name, wanted in CALLS.items():
+            call = listed()[name]
+            names = [param for param, _, _ in wanted]
+            for i, j in itertools.combinations(range(len(wanted)), 2):
+                for one, two in itertools.product(wanted[i][2], wanted[j][2][:6]):
+                    values = [good for _, good, _ in wanted]
+                    values[i], values[j] = one, two
+                    with self.subTest(f"{name} {names[i]} {names[j]}"):
+                        self.refused(call, names[i], names, values)
+
+    def test_all_at_once(self):
+        for name, wanted in CALLS.items():
+            for bad in wanted[0][2]:
+                values = [bad] + [bads[0] for _, _, bads in wanted[1:]]
+                self.refused(listed()[name], wanted[0][0], [param for param, _, _ in wanted], values)
+
+    def test_results_are_tuples(self):
+        for name, wanted in CALLS.items():
+            found = listed()[name](*[good for _, good, _ in wanted])
+            self.assertNotIsInstance(found, (list, dict, set))
+            if isinstance(found, tuple):
+                self.check_tuples(found)
+
+    def check_tuples(self, found):
+        for part in found:
+            self.assertIn(type(part), (int, str, bool, tuple))
+            if isinstance(part, tuple):
+                self.check_tuples(part)
+
+
+if __name__ == "__main__":
+    unittest.main()
