@@ -4,7 +4,7 @@ Each of these raises NotUsable with the name of the parameter, or does nothing.
 """
 
 from compassless.errors import NotUsable
-from compassless.kinds import is_place, is_standing
+from compassless.kinds import is_figure, is_integer, is_many, is_place, is_standing
 
 
 def require(fine, name):
@@ -21,3 +21,35 @@ def require_place_in(standing, place):
     require_standing(standing)
     # (True, 0) equals (1, 0) for Python, so the kind is asked ahead of the membership.
     require(is_place(place) and place in standing, "place")
+
+
+def require_both(standing, figure):
+    """A standing, and a figure of as many places."""
+    require_standing(standing)
+    require(is_figure(figure, len(standing)), "figure")
+
+
+def require_each(figures, many):
+    """Standings of so many places, refused by their number."""
+    for k in range(len(figures)):
+        if not is_figure(figures[k], many):
+            raise NotUsable("figures", k)
+
+
+def require_figures(figures):
+    """One standing or more, of as many places as the first one."""
+    require(len(figures) > 0, "figures")
+    if not is_standing(figures[0]):
+        raise NotUsable("figures", 0)
+    require_each(figures, len(figures[0]))
+
+
+def require_many(many):
+    require(is_integer(many) and is_many(many), "many")
+
+
+def require_field(many, wide, high):
+    """How many robots, and how wide and high the field is."""
+    require_many(many)
+    require(is_integer(wide) and 1 <= wide <= 12, "wide")
+    require(is_integer(high) and 1 <= high <= 12, "high")

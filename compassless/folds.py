@@ -41,6 +41,11 @@ def find_class(standing):
     return ("held", fold, name_kind(twice))
 
 
+def is_held(told):
+    """True if this is the class of held standings."""
+    return told[0] == "held"
+
+
 def fold_of(standing):
     """The fold: 1, 2 or 4."""
     require_standing(standing)

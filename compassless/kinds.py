@@ -11,6 +11,10 @@ def is_integer(thing):
     return isinstance(thing, int) and not isinstance(thing, bool)
 
 
+def is_number(thing):
+    return is_integer(thing) and thing >= 0
+
+
 def is_turn(thing):
     return is_integer(thing) and 0 <= thing <= 3
 
@@ -52,3 +56,8 @@ def is_row(thing):
 def is_standing(thing):
     """True if thing is a row that is ascending."""
     return is_row(thing) and list(thing) == sorted(thing)
+
+
+def is_figure(thing, many):
+    """True if thing is a standing of so many places."""
+    return is_standing(thing) and len(thing) == many

@@ -66,6 +66,29 @@ FUNCTIONS = {
         "carrier_of(standing, other)",
     ],
     "views": ["view_of(standing, place, frame)", "lookalikes(standing, place)"],
+    "weights": ["weight_of(standing, place)", "far_ones(standing)", "leader_of(standing)"],
+    "hats": ["hat_of(standing, place)", "hats_of(standing)", "place_by(standing, hat)"],
+    "pushes": ["after_moves(standing, moves)"],
+    "fitting": ["fits(standing, figure)", "why_of(standing, figure)"],
+    "foeframes": ["foe_frames(standing)"],
+    "barpapers": ["bar_paper(standing, figure)", "lets_bar(standing, figure, thing)"],
+    "routes": ["route_of(standing, *figures)"],
+    "fittables": ["fit_table(*figures)", "fit_both(standing, other)", "classes_by(many)"],
+    "census": ["census(many, wide, high)", "count_of(many, wide, high, told)"],
+    "fields": ["field_standings(many, wide, high)"],
+    "roads": [
+        "distance(place, other)",
+        "road(place, other)",
+        "other_road(place, other)",
+        "last_on(way, places)",
+    ],
+    "tables": [
+        "is_table(thing)",
+        "is_partners(many, thing)",
+        "total_of(table, partners)",
+        "distance_table(places, goals)",
+    ],
+    "leasts": ["least_total(table)", "least_partners(table)"],
 }
 
 CLASSES = {
@@ -77,6 +100,17 @@ CLASSES = {
             "back(self)",
             "told(self)",
             "__mul__(self, other)",
+            "__eq__(self, other)",
+        ],
+    },
+    "figureclasses": {
+        "Figures": [
+            "__init__(self, *figures)",
+            "fitted(self, standing)",
+            "route(self, standing)",
+            "table(self)",
+            "barred(self, standing)",
+            "__len__(self)",
             "__eq__(self, other)",
         ],
     },

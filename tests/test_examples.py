@@ -3,9 +3,12 @@
 import os
 import unittest
 
+from compassless.barpapers import lets_bar
 from compassless.drawings import read_drawing
-from compassless.errors import FloorError, InvalidText
+from compassless.errors import FloorError, InvalidPaper, InvalidText
+from compassless.foeframes import foe_frames
 from tests.interface import listed
+from tests.samples import SQUARE, ZIG
 
 EXAMPLES = os.path.join(os.path.dirname(__file__), "examples.txt")
 
@@ -35,7 +38,7 @@ class Examples(unittest.TestCase):
     def test_word_for_word(self):
         names = listed()
         examples = read_examples()
-        self.assertEqual(len(examples), 37)
+        self.assertEqual(len(examples), 61)
         for text, due in examples:
             with self.subTest(text):
                 if due is None:
@@ -44,9 +47,13 @@ class Examples(unittest.TestCase):
                     self.assertEqual(answer(text, names), due)
 
     def test_told_in_prose(self):
+        with self.assertRaises(InvalidPaper) as caught:
+            lets_bar(SQUARE, ZIG, (0, 1, 0, 0))
+        self.assertEqual(vars(caught.exception), {"word": "views", "at": 2})
         with self.assertRaises(InvalidText) as caught:
             read_drawing("")
         self.assertEqual(vars(caught.exception), {"line": 0, "field": 0})
+        self.assertEqual(foe_frames(((0, 0), (0, 1))), (0, 2))
 
 
 if __name__ == "__main__":

@@ -10,25 +10,40 @@ from compassless.errors import NotUsable
 from compassless.floorclasses import Motion
 from tests.interface import FUNCTIONS, listed
 from tests.samples import (
+    BAD_INTEGERS,
     BAD_MOTIONS,
     BAD_PLACES,
     BAD_ROWS,
     BAD_STANDINGS,
     BAD_TEXTS,
     BAD_TURNS,
+    BAR,
     ELL,
+    SQUARE,
     ZIG,
 )
 
 # True and False where 1 and 0 stand in a place of the standing, too.
 NOT_IN_ZIG = BAD_PLACES + [(5, 5), (0, 1), (True, 0), (0, False), (False, False), ZIG]
+NOT_FOUR = BAD_STANDINGS + [BAR, ((0, 0), (0, 1), (1, 0), (1, 1), (2, 2))]
+NOT_PLACES = [None, True, 1, "", [], [(0, 0)], (0, 0), ((0, 0), [1, 0]), ((True, 0),), ((0, 0), None), (((0, 0),),)]
+NOT_MOVES = [None, [], (None,), (((9, 9), (1, 0)),), (((0, 0), (0, 0)),), (((0, 0), (True, 0)),), ((0, 0), (1, 0))]
+NOT_TABLE = [None, [], ((),), ((True,),), ((-1,),), ((0, 1), (0,)), ([0],), "", ((0,), (1,))]
+NOT_TWO_PARTNERS = [None, [0, 1], (0,), (0, 0), (0, True), (1, 2), (0, 1, 2), "01"]
+NOT_GOALS = NOT_PLACES + [((0, 0), (0, 0)), tuple((k, 0) for k in range(9))]
+NOT_MANY = BAD_INTEGERS + [-1, 0, 1, 11]
+NOT_SIZE = BAD_INTEGERS + [-1, 0, 13]
+NOT_TOLD = [None, "uneven", ("uneven", True, ""), ["uneven", 1, ""], ("held", 4, "edge"), ("pinned", 2, "place"), ()]
 
 STANDING = (ZIG, BAD_STANDINGS)
+FIGURE = (SQUARE, NOT_FOUR)
 PLACE = ((3, -4), BAD_PLACES)
 TURN = (2, BAD_TURNS)
 MOTION = ((1, 3, 0), BAD_MOTIONS)
 ROW = (((1, 0), (0, 0)), BAD_ROWS)
 IN_ZIG = ((2, 1), NOT_IN_ZIG)
+FIELD = [("many", 4, NOT_MANY), ("wide", 3, NOT_SIZE), ("high", 2, NOT_SIZE)]
+TABLE = (((0, 1), (1, 0)), NOT_TABLE)
 
 
 def params(**given):
@@ -68,10 +83,36 @@ CALLS = {
     "carrier_of": params(standing=STANDING, other=(ELL, BAD_STANDINGS)),
     "view_of": params(standing=STANDING, place=IN_ZIG, frame=TURN),
     "lookalikes": params(standing=STANDING, place=IN_ZIG),
+    "weight_of": params(standing=STANDING, place=IN_ZIG),
+    "far_ones": params(standing=STANDING),
+    "leader_of": params(standing=STANDING),
+    "hat_of": params(standing=STANDING, place=IN_ZIG),
+    "hats_of": params(standing=STANDING),
+    "place_by": params(standing=STANDING, hat=((5, 1), BAD_PLACES + [(5, 2), (4, 1)])),
+    "after_moves": params(standing=STANDING, moves=((((0, 0), (0, 1)),), NOT_MOVES)),
+    "fits": params(standing=STANDING, figure=FIGURE),
+    "why_of": params(standing=STANDING, figure=FIGURE),
+    "foe_frames": params(standing=STANDING),
+    "bar_paper": params(standing=STANDING, figure=FIGURE),
+    "fit_both": params(standing=STANDING, other=FIGURE),
+    "classes_by": params(many=(4, NOT_MANY)),
+    "census": FIELD,
+    "count_of": FIELD + params(told=(("uneven", 1, ""), NOT_TOLD)),
+    "distance": params(place=PLACE, other=PLACE),
+    "road": params(place=PLACE, other=PLACE),
+    "other_road": params(place=PLACE, other=PLACE),
+    "last_on": params(way=(ELL, NOT_PLACES), places=(BAR, NOT_PLACES)),
+    "total_of": params(table=TABLE, partners=((1, 0), NOT_TWO_PARTNERS)),
+    "distance_table": params(places=(ELL, NOT_GOALS), goals=(BAR, NOT_GOALS + [ZIG])),
+    "least_total": params(table=TABLE),
+    "least_partners": params(table=TABLE),
 }
 
-# These take any thing, or any number of arguments, and have tests of their own.
-ELSEWHERE = "is_place is_step is_motion is_row is_standing lets_row standing_of".split()
+# These take any thing, or any number of arguments, or raise later, and have tests of their own.
+ELSEWHERE = (
+    "is_place is_step is_motion is_row is_standing is_table is_partners "
+    "lets_row lets_bar standing_of route_of fit_table field_standings"
+).split()
 
 
 class WrongInputs(unittest.TestCase):
@@ -132,6 +173,14 @@ class WrongInputs(unittest.TestCase):
             for bad in wanted[0][2]:
                 values = [bad] + [bads[0] for _, _, bads in wanted[1:]]
                 self.refused(listed()[name], wanted[0][0], [param for param, _, _ in wanted], values)
+
+    def test_checkers_refuse_their_other_parameters(self):
+        call = listed()["lets_bar"]
+        names = ["standing", "figure", "thing"]
+        for bad in BAD_STANDINGS:
+            self.refused(call, "standing", names, [bad, bad, None])
+        for bad in NOT_FOUR:
+            self.refused(call, "figure", names, [ZIG, bad, None])
 
     def test_results_are_tuples(self):
         for name, wanted in CALLS.items():
