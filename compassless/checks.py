@@ -4,7 +4,7 @@ Each of these raises NotUsable with the name of the parameter, or does nothing.
 """
 
 from compassless.errors import NotUsable
-from compassless.kinds import is_figure, is_integer, is_many, is_place, is_standing
+from compassless.kinds import is_figure, is_integer, is_large, is_many, is_place, is_standing
 
 
 def require(fine, name):
@@ -26,6 +26,17 @@ def require_place_in(standing, place):
 def require_both(standing, figure):
     """A standing, and a figure of as many places."""
     require_standing(standing)
+    require(is_figure(figure, len(standing)), "figure")
+
+
+def require_large(standing):
+    """A standing of three places or more."""
+    require(is_large(standing), "standing")
+
+
+def require_large_both(standing, figure):
+    """A standing of three places or more, and a figure of as many."""
+    require_large(standing)
     require(is_figure(figure, len(standing)), "figure")
 
 

@@ -1,7 +1,8 @@
 """What fits: which standings can be brought to which figures."""
 
-from compassless.checks import require_both
-from compassless.folds import find_class, find_fold, find_kind, is_held
+from compassless.checks import require_both, require_large_both
+from compassless.errors import NotFit
+from compassless.folds import find_class, find_fold, find_kind, is_held, require_held
 from compassless.forms import are_alike
 
 
@@ -17,6 +18,18 @@ def does_fit(standing, figure):
         return True
     _, fold, kind = find_class(standing)
     return find_fold(figure) % fold == 0 and find_kind(figure) == kind
+
+
+def require_fitting(standing, figure):
+    if not does_fit(standing, figure):
+        raise NotFit(find_class(standing))
+
+
+def require_held_both(standing, figure):
+    """A held standing, and a figure that it fits."""
+    require_large_both(standing, figure)
+    require_held(standing)
+    require_fitting(standing, figure)
 
 
 def fits(standing, figure):

@@ -2,6 +2,7 @@
 
 from compassless.centres import find_centre, find_under, keeps
 from compassless.checks import require_standing
+from compassless.errors import NotHeld, NotUneven
 
 UNEVEN = ("uneven", 1, "")
 
@@ -44,6 +45,18 @@ def find_class(standing):
 def is_held(told):
     """True if this is the class of held standings."""
     return told[0] == "held"
+
+
+def require_uneven(standing):
+    told = find_class(standing)
+    if told != UNEVEN:
+        raise NotUneven(told)
+
+
+def require_held(standing):
+    told = find_class(standing)
+    if not is_held(told):
+        raise NotHeld(told)
 
 
 def fold_of(standing):

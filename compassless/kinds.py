@@ -58,6 +58,11 @@ def is_standing(thing):
     return is_row(thing) and list(thing) == sorted(thing)
 
 
+def is_large(thing):
+    """True if thing is a standing of three places or more."""
+    return is_standing(thing) and len(thing) > LEAST_ROBOTS
+
+
 def is_figure(thing, many):
     """True if thing is a standing of so many places."""
     return is_standing(thing) and len(thing) == many

@@ -18,8 +18,12 @@ from tests.samples import (
     BAD_TEXTS,
     BAD_TURNS,
     BAR,
+    ELEVEN,
     ELL,
+    LINE,
+    PLUS,
     SQUARE,
+    TEE,
     ZIG,
 )
 
@@ -35,6 +39,14 @@ NOT_MANY = BAD_INTEGERS + [-1, 0, 1, 11]
 NOT_SIZE = BAD_INTEGERS + [-1, 0, 13]
 NOT_TOLD = [None, "uneven", ("uneven", True, ""), ["uneven", 1, ""], ("held", 4, "edge"), ("pinned", 2, "place"), ()]
 
+NOT_NUMBER = BAD_INTEGERS + [-1]
+NOT_LARGE = BAD_STANDINGS + [((0, 0), (0, 1))]
+NOT_LARGE_FOUR = NOT_FOUR + [((0, 0), (0, 1))]
+NOT_HELD = NOT_LARGE + [BAR, TEE, PLUS]
+NOT_FOLD = BAD_INTEGERS + [0, 1, 3, 8]
+HATS = ((-2, 0), (2, 0))
+NOT_KEPT = [None, [], list(HATS), HATS[::-1], ((-2, 0),), ((0, 0),), HATS + ((4, 0),), ((-2, 0), (True, 0)), "", 7]
+
 STANDING = (ZIG, BAD_STANDINGS)
 FIGURE = (SQUARE, NOT_FOUR)
 PLACE = ((3, -4), BAD_PLACES)
@@ -44,11 +56,19 @@ ROW = (((1, 0), (0, 0)), BAD_ROWS)
 IN_ZIG = ((2, 1), NOT_IN_ZIG)
 FIELD = [("many", 4, NOT_MANY), ("wide", 3, NOT_SIZE), ("high", 2, NOT_SIZE)]
 TABLE = (((0, 1), (1, 0)), NOT_TABLE)
+NUMBER = (3, NOT_NUMBER)
+LARGE = (ZIG, NOT_LARGE)
+# Stages 9 and 10: an uneven standing, a figure of as many places, three or more.
+UNEVEN = (TEE, NOT_LARGE)
+LARGE_FOUR = (SQUARE, NOT_LARGE_FOUR)
 
 
 def params(**given):
     return [(name, good, bad) for name, (good, bad) in given.items()]
 
+
+KEPT = params(fold=(2, NOT_FOLD), hats=(HATS, NOT_KEPT), goals=(((-4, 2), (4, -2)), NOT_KEPT + [((-1, 0), (1, 0)), ()]))
+HELD = params(figure=(LINE, NOT_HELD), fold=(2, NOT_FOLD + [4]), stance=(1, NOT_NUMBER + [2]), many=NUMBER)
 
 # For each function its parameters in their order: a value as stated, and others that are not.
 CALLS = {
@@ -106,12 +126,37 @@ CALLS = {
     "distance_table": params(places=(ELL, NOT_GOALS), goals=(BAR, NOT_GOALS + [ZIG])),
     "least_total": params(table=TABLE),
     "least_partners": params(table=TABLE),
+    "prices_of": params(table=TABLE, partners=((1, 0), NOT_TWO_PARTNERS)),
+    "fewest": params(standing=(ZIG, BAD_STANDINGS + [ELEVEN[:7]]), figure=FIGURE),
+    "next_move": params(standing=(ZIG, BAD_STANDINGS + [ELEVEN[:9]]), goals=FIGURE),
+    "steered": params(standing=(ZIG, BAD_STANDINGS + [ELEVEN[:9]]), goals=FIGURE),
+    "orbits_about": params(fold=(2, NOT_FOLD), hats=(HATS, NOT_KEPT)),
+    "orbit_table": KEPT,
+    "orbit_move": KEPT,
+    "after_orbit": KEPT,
+    "top_of": params(figure=LARGE),
+    "body_of": params(figure=LARGE),
+    "home_of": params(figure=LARGE, many=NUMBER),
+    "near_of": params(standing=UNEVEN, figure=LARGE_FOUR),
+    "picture_of": params(standing=UNEVEN),
+    "want_parts": params(standing=UNEVEN, side=NUMBER),
+    "want_of": params(standing=UNEVEN, side=NUMBER),
+    "wished_of": params(standing=UNEVEN, figure=LARGE_FOUR),
+    "wished_y": params(standing=UNEVEN, figure=LARGE_FOUR),
+    "wished_table": params(standing=UNEVEN, figure=LARGE_FOUR),
+    "uneven_move": params(standing=UNEVEN, figure=LARGE_FOUR),
+    "uneven_left": params(standing=UNEVEN, figure=LARGE_FOUR),
+    "uneven_most": params(many=NUMBER, side=NUMBER, other=NUMBER),
+    "stances_of": HELD[:2],
+    "tops_of": HELD,
+    "stance_body": HELD[:3],
+    "held_home": HELD,
 }
 
 # These take any thing, or any number of arguments, or raise later, and have tests of their own.
 ELSEWHERE = (
-    "is_place is_step is_motion is_row is_standing is_table is_partners "
-    "lets_row lets_bar standing_of route_of fit_table field_standings"
+    "is_place is_step is_motion is_row is_standing is_table is_partners is_kept "
+    "lets_row lets_bar lets_prices standing_of route_of fit_table field_standings"
 ).split()
 
 
