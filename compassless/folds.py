@@ -2,7 +2,7 @@
 
 from compassless.centres import find_centre, find_under, keeps
 from compassless.checks import require_standing
-from compassless.errors import NotHeld, NotUneven
+from compassless.errors import NotHeld, NotPinned, NotUneven
 
 UNEVEN = ("uneven", 1, "")
 
@@ -47,6 +47,11 @@ def is_held(told):
     return told[0] == "held"
 
 
+def is_pinned(told):
+    """True if this is the class of pinned standings."""
+    return told[0] == "pinned"
+
+
 def require_uneven(standing):
     told = find_class(standing)
     if told != UNEVEN:
@@ -57,6 +62,12 @@ def require_held(standing):
     told = find_class(standing)
     if not is_held(told):
         raise NotHeld(told)
+
+
+def require_pinned(standing):
+    told = find_class(standing)
+    if not is_pinned(told):
+        raise NotPinned(told)
 
 
 def fold_of(standing):

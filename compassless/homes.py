@@ -14,9 +14,10 @@ def find_body(figure):
     return find_form(figure)[:-1]
 
 
-def find_home(figure, many):
-    x, y = find_top(figure)
-    return find_body(figure) + ((x + many, y),)
+def lead_out(form, many):
+    """The home with this number of a figure with this form."""
+    x, y = form[-1]
+    return form[:-1] + ((x + many, y),)
 
 
 def top_of(figure):
@@ -35,4 +36,4 @@ def home_of(figure, many):
     """The home with this number: the body with the top so many steps further east."""
     require(is_large(figure), "figure")
     require(is_number(many), "many")
-    return find_home(figure, many)
+    return lead_out(find_form(figure), many)

@@ -63,6 +63,11 @@ def is_large(thing):
     return is_standing(thing) and len(thing) > LEAST_ROBOTS
 
 
+def is_view(thing):
+    """True if thing is a standing with a robot on (0, 0)."""
+    return is_standing(thing) and (0, 0) in thing
+
+
 def is_figure(thing, many):
     """True if thing is a standing of so many places."""
     return is_standing(thing) and len(thing) == many

@@ -112,6 +112,19 @@ FUNCTIONS = {
         "stance_body(figure, fold, stance)",
         "held_home(figure, fold, stance, many)",
     ],
+    "heldnears": ["near_held(standing, figure)"],
+    "heldpictures": ["held_picture(standing, figure)"],
+    "heldwants": ["held_want(standing, figure)", "held_table(standing, figure)"],
+    "heldmoves": ["held_moves(standing, figure)"],
+    "pinned": ["pinned_depth(standing)", "pinned_moves(standing)"],
+    "house": ["house_moves(standing, figure)", "house_step(view, figure)"],
+    "lefts": ["left_of(standing, figure)", "most_of(standing, figure)"],
+    "ruletrees": ["is_num(names, thing)", "is_test(names, thing)", "is_way(names, thing)", "is_rule(thing)"],
+    "rulechecker": ["lets_rule(thing)"],
+    "rulewords": ["words_of(text)"],
+    "readings": ["read_rule(text)"],
+    "showing": ["show_num(num)", "show_test(test)", "show_rule(rule)"],
+    "viewwords": ["word_of(word, view, figure)"],
 }
 
 CLASSES = {
@@ -157,6 +170,17 @@ CLASSES = {
             "left(self)",
             "done(self)",
             "told(self)",
+            "__eq__(self, other)",
+        ],
+    },
+    "houseclasses": {
+        "House": [
+            "__init__(self, figure)",
+            "moves(self, standing)",
+            "reckon(self, view)",
+            "left(self, standing)",
+            "most(self, standing)",
+            "fitted(self, standing)",
             "__eq__(self, other)",
         ],
     },

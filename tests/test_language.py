@@ -212,6 +212,33 @@ class Code(unittest.TestCase):
                     self.assertIn(function.name, DOUBLE, name)
 
 
+def kept_tables():
+    """The names of the lists and dicts that stand at module level somewhere."""
+    values = [node for tree in TREES.values() for node in tree.body if isinstance(node, ast.Assign)]
+    return {node.targets[0].id for node in values if isinstance(node.value, (ast.Dict, ast.List))}
+
+
+def is_only_read(node, name):
+    """True if the part of the code reads this name by an index, by in, or makes a copy of it."""
+    if isinstance(node, ast.Subscript):
+        return isinstance(node.value, ast.Name) and node.value.id == name
+    if isinstance(node, ast.Compare):
+        asked = [part.id for part in node.comparators if isinstance(part, ast.Name)]
+        return isinstance(node.ops[0], (ast.In, ast.NotIn)) and name in asked
+    return isinstance(node, ast.Call) and isinstance(node.func, ast.Name) and node.func.id in ("list", "dict", "len")
+
+
+class Tables(unittest.TestCase):
+    def test_are_only_read(self):
+        names = kept_tables()
+        self.assertIn("CALLS", names)
+        for name, tree in TREES.items():
+            for node in ast.walk(tree):
+                for part in ast.iter_child_nodes(node):
+                    if isinstance(part, ast.Name) and part.id in names and isinstance(part.ctx, ast.Load):
+                        self.assertTrue(is_only_read(node, part.id), f"{name} {part.id}")
+
+
 class Interface(unittest.TestCase):
     def test_functions_are_defined_in_their_files(self):
         for file, heads in FUNCTIONS.items():

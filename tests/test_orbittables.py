@@ -71,6 +71,7 @@ class Kept(unittest.TestCase):
                 self.assertIs(is_kept(fold, hats[1:]), False)
                 self.assertIs(is_kept(fold, hats[::-1]), False)
                 self.assertIs(is_kept(fold, hats + hats), False)
+                self.assertIs(is_kept(fold, tuple(sorted(hats + hats))), False)
 
     def test_four_is_two_as_well(self):
         for fold, hats, _ in draw_twins(44, 2):

@@ -8,6 +8,7 @@ import unittest
 
 from compassless.errors import NotUsable
 from compassless.floorclasses import Motion
+from compassless.ruletrees import HOUSE
 from tests.interface import FUNCTIONS, listed
 from tests.samples import (
     BAD_INTEGERS,
@@ -67,6 +68,12 @@ def params(**given):
     return [(name, good, bad) for name, (good, bad) in given.items()]
 
 
+NOT_VIEW = BAD_STANDINGS + [((1, 0), (2, 0), (3, 1), (4, 1)), ((0, 1), (1, 0))]
+NOT_TREES = [None, True, 1, "", (), [], ("num",), ("num", True), ("word", "east"), ("name", "go"), ["stay"], HOUSE[:3]]
+NOT_WORDS = [None, True, 1, "", "east", "seen", "name", ("far",), ["far"], "Far"]
+SAME = ("eq", ("num", 1), ("num", 1))
+VIEW = (ZIG, NOT_VIEW)
+HELD_BOTH = params(standing=LARGE, figure=LARGE_FOUR)
 KEPT = params(fold=(2, NOT_FOLD), hats=(HATS, NOT_KEPT), goals=(((-4, 2), (4, -2)), NOT_KEPT + [((-1, 0), (1, 0)), ()]))
 HELD = params(figure=(LINE, NOT_HELD), fold=(2, NOT_FOLD + [4]), stance=(1, NOT_NUMBER + [2]), many=NUMBER)
 
@@ -151,12 +158,30 @@ CALLS = {
     "tops_of": HELD,
     "stance_body": HELD[:3],
     "held_home": HELD,
+    "near_held": HELD_BOTH,
+    "held_picture": HELD_BOTH,
+    "held_want": HELD_BOTH,
+    "held_table": HELD_BOTH,
+    "held_moves": HELD_BOTH,
+    "pinned_depth": params(standing=(PLUS, BAD_STANDINGS)),
+    "pinned_moves": params(standing=(PLUS, BAD_STANDINGS)),
+    "house_moves": params(standing=STANDING, figure=FIGURE),
+    "house_step": params(view=VIEW, figure=FIGURE),
+    "left_of": params(standing=STANDING, figure=FIGURE),
+    "most_of": params(standing=STANDING, figure=FIGURE),
+    "words_of": params(text=("go east", BAD_TEXTS)),
+    "read_rule": params(text=("else go east", BAD_TEXTS)),
+    "show_num": params(num=(("num", 1), NOT_TREES + [("not", SAME)])),
+    "show_test": params(test=(SAME, NOT_TREES + [("neg", ("num", 1))])),
+    "show_rule": params(rule=(HOUSE, NOT_TREES + [SAME, ("rule", (), (), ("house", 1))])),
+    "word_of": params(word=("far", NOT_WORDS), view=VIEW, figure=(ELL, BAD_STANDINGS[1:])),
 }
 
 # These take any thing, or any number of arguments, or raise later, and have tests of their own.
 ELSEWHERE = (
     "is_place is_step is_motion is_row is_standing is_table is_partners is_kept "
-    "lets_row lets_bar lets_prices standing_of route_of fit_table field_standings"
+    "is_num is_test is_way is_rule lets_row lets_bar lets_prices lets_rule "
+    "standing_of route_of fit_table field_standings"
 ).split()
 
 
