@@ -53,7 +53,7 @@ def halved_way(orbit, name):
 
 def find_orbit_table(fold, hats, goals):
     orbits = find_orbits_about(fold, hats)
-    names = [orbit[0] for orbit in find_orbits_about(fold, goals)]
+    names = [aim[0] for aim in find_orbits_about(fold, goals)]
     return tuple([tuple([halved_way(orbit, name) for name in names]) for orbit in orbits])
 
 
@@ -76,7 +76,7 @@ def find_leaver(fold, hats, goals):
     if hats == goals:
         return None
     orbits = find_orbits_about(fold, hats)
-    names = [orbit[0] for orbit in find_orbits_about(fold, goals)]
+    names = [aim[0] for aim in find_orbits_about(fold, goals)]
     partners = find_partners(find_orbit_table(fold, hats, goals))
     # A goal that is free has a free orbit, so the least one is a name.
     free = [goal for goal in goals if goal not in hats]

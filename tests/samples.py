@@ -19,6 +19,16 @@ OFF = ((0, 0), (1, 0), (5, 0))
 TEN = tuple((k, k * k) for k in range(10))
 ELEVEN = tuple((k, k * k) for k in range(11))
 
+# Held ones with far ones in two orbits: which one leads, and which is the first top, is to be chosen.
+TIES = (
+    ((0, 0), (0, 1), (3, 0), (3, 1)),
+    ((0, 0), (0, 2), (3, 0), (3, 2)),
+    ((0, 0), (0, 2), (4, 0), (4, 2)),
+    ((0, 0), (0, 3), (1, 1), (1, 2), (2, 0), (2, 3)),
+    ((0, 1), (0, 2), (1, 0), (1, 3), (2, 0), (2, 3), (3, 1), (3, 2)),
+    ((0, 1), (0, 3), (1, 0), (1, 4), (3, 0), (3, 4), (4, 1), (4, 3)),
+)
+
 HUGE = 10**30
 UNEVEN = ("uneven", 1, "")
 STEPS = ((1, 0), (0, 1), (-1, 0), (0, -1))

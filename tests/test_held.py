@@ -23,12 +23,12 @@ from compassless.pushes import after_moves
 from compassless.stances import stances_of
 from compassless.turns import cone_turn, turned
 from compassless.weights import leader_of
-from tests.samples import BAR, ELL, LINE, PLUS, RING, SAMPLES, SQUARE, TEE, TEN, ZIG, draw_standing, of_class
+from tests.samples import BAR, ELL, LINE, PLUS, RING, SAMPLES, SQUARE, TEE, TEN, TIES, ZIG, draw_standing, of_class
 
 OUT = ((0, 0), (1, 1), (2, 0), (3, 1))
 BENT = ((0, 0), (1, 1), (1, 2), (2, 3))
 PAIR = ((0, 0), (0, 1))
-HELD = [standing for standing in of_class("held") if len(standing) > 2]
+HELD = [standing for standing in of_class("held") if len(standing) > 2] + list(TIES)
 MOTIONS = ((1, 3, 0), (2, -5, 7), (3, -1, -2), (0, 4, -9))
 CALLS = (near_held, held_picture, held_want, held_table, held_moves)
 
@@ -37,7 +37,7 @@ def fitting_pairs(seed, times):
     """Held standings, each with some figures that it fits, of its own and of fold 4."""
     rng = random.Random(seed)
     for standing in HELD:
-        figures = [figure for figure in SAMPLES if len(figure) == len(standing) and fits(standing, figure)]
+        figures = [figure for figure in HELD if len(figure) == len(standing) and fits(standing, figure)]
         for figure in rng.sample(figures, min(times, len(figures))):
             yield standing, figure
 

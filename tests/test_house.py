@@ -39,6 +39,7 @@ from tests.samples import (
     STEPS,
     TEE,
     TEN,
+    TIES,
     ZIG,
     classes_of,
     draw_standing,
@@ -135,8 +136,8 @@ class Pinned(unittest.TestCase):
 def pairs(seed, times):
     """Standings of each class, each with some figures of as many places, fitting or not."""
     rng = random.Random(seed)
-    for standing in SAMPLES + PINNED:
-        figures = [figure for figure in SAMPLES if len(figure) == len(standing)]
+    for standing in SAMPLES + PINNED + list(TIES):
+        figures = [figure for figure in SAMPLES + list(TIES) if len(figure) == len(standing)]
         for figure in rng.sample(figures, min(times, len(figures))) + [standing]:
             yield standing, figure
 

@@ -12,10 +12,10 @@ from compassless.orbittables import is_kept
 from compassless.stances import stances_of
 from compassless.turns import cone_turn, turned
 from compassless.weights import weight_of
-from tests.samples import BAD_INTEGERS, BAD_STANDINGS, BAR, ELL, LINE, MOTIONS, PLUS, SQUARE, TEE, ZIG, of_class
+from tests.samples import BAD_INTEGERS, BAD_STANDINGS, BAR, ELL, LINE, MOTIONS, PLUS, SQUARE, TEE, TIES, ZIG, of_class
 
 PAIR = ((0, 0), (0, 1))
-FIGURES = [figure for figure in of_class("held") if len(figure) > 2]
+FIGURES = [figure for figure in of_class("held") if len(figure) > 2] + list(TIES)
 
 
 def cases():

@@ -245,6 +245,27 @@ class Moves(unittest.TestCase):
         for standing, figure in draw_far(51, 4, 8):
             self.check(standing, figure)
 
+    def test_just_one_more(self):
+        # WANT is 1, so the leader still goes first.
+        for standing, figure in draw_twins(58, 2):
+            want = want_of(standing, side_of(figure))
+            if want and not alike(standing, figure):
+                last = step_out(standing, want - 1)
+                turn = picture_of(last)[0]
+                self.assertEqual(self.check(last, figure), (leader_of(last), turned((4 - turn) % 4, (1, 0))))
+
+    def test_up_and_down(self):
+        # The others stand as wished, so the leader goes to the wished y.
+        for figure in LARGE:
+            x, y = top_of(figure)
+            for k in (-7, -1, 1, 4):
+                standing = tuple(sorted(body_of(figure) + ((x + 900, y + k),)))
+                self.assertEqual(uneven_left(standing, figure), (1, 1, 0, abs(k), 0))
+                for motion in NEAR_MOTIONS:
+                    step = turned(motion[0], (0, -1 if k > 0 else 1))
+                    due = (moved(motion, (x + 900, y + k)), step)
+                    self.assertEqual(self.check(carried(motion, standing), figure), due)
+
     def test_alike(self):
         for figure in UNEVENS:
             for motion in NEAR_MOTIONS:
@@ -273,6 +294,14 @@ class Moves(unittest.TestCase):
                 self.assertEqual(uneven_move(goal, figure), due)
                 self.assertEqual(uneven_left(goal, figure), uneven_left(standing, figure))
                 self.assertEqual(uneven_move(standing, carried(motion, figure)), uneven_move(standing, figure))
+
+    def test_entries_of_ten_to_the_nine(self):
+        for motion in ((3, 10**9, -(10**9)), (1, -(10**9), 10**9)):
+            for standing, figure in draw_far(57, 1):
+                place, step = self.check_any(standing, figure)
+                due = (moved(motion, place), turned(motion[0], step)) if place else None
+                self.assertEqual(uneven_move(carried(motion, standing), figure), due)
+                self.assertEqual(uneven_left(carried(motion, standing), figure), uneven_left(standing, figure))
 
     def check_any(self, standing, figure):
         return uneven_move(standing, figure) or (None, None)
