@@ -4,7 +4,8 @@ Each of these raises NotUsable with the name of the parameter, or does nothing.
 """
 
 from compassless.errors import NotUsable
-from compassless.kinds import is_figure, is_integer, is_large, is_many, is_place, is_standing
+from compassless.kinds import is_figure, is_integer, is_large, is_many, is_number
+from compassless.kinds import is_place, is_row, is_standing, is_turn
 
 
 def require(fine, name):
@@ -14,6 +15,28 @@ def require(fine, name):
 
 def require_standing(standing):
     require(is_standing(standing), "standing")
+
+
+def require_row(row):
+    require(is_row(row), "row")
+
+
+def require_row_both(row, figure):
+    """A row, and a figure of as many places."""
+    require_row(row)
+    require(is_figure(figure, len(row)), "figure")
+
+
+def require_robot(row, robot):
+    require(is_number(robot) and robot < len(row), "robot")
+
+
+def require_frame(frame):
+    require(is_turn(frame), "frame")
+
+
+def require_number(many):
+    require(is_number(many), "many")
 
 
 def require_place_in(standing, place):

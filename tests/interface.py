@@ -125,6 +125,34 @@ FUNCTIONS = {
     "readings": ["read_rule(text)"],
     "showing": ["show_num(num)", "show_test(test)", "show_rule(rule)"],
     "viewwords": ["word_of(word, view, figure)"],
+    "numbers": ["number_of(num, names, view, figure)"],
+    "truths": ["holds(test, names, view, figure)"],
+    "meaning": [
+        "names_by(rule, view, figure)",
+        "way_of(rule, view, figure)",
+        "step_of(rule, view, figure)",
+    ],
+    "lots": [
+        "is_lot(many, thing)",
+        "all_lot(many, frame)",
+        "lessened(turn, lots)",
+        "lot_line(lot)",
+        "lots_line(lots)",
+        "read_lots(many, text)",
+    ],
+    "ticks": ["step_in(row, rule, figure, robot, frame)", "tick(row, rule, figure, lot)"],
+    "runs": ["run_of(row, rule, figure, lots)", "lets_log(row, rule, figure, lots, thing)"],
+    "foes": ["foe_lots(row, figure, many)", "kept_run(row, rule, figure, many)"],
+    "moving": ["moves_of(standing, rule, figure)", "single_of(standing, rule, figure)"],
+    "courses": ["course_of(standing, rule, figure, many)", "foretold(standing, figure)"],
+    "needs": ["needed(row, figure)", "stopped_at(row, figure, robots)"],
+    "lates": [
+        "late_start(row)",
+        "is_event(thing)",
+        "is_state(thing)",
+        "happen(state, rule, figure, event)",
+    ],
+    "mends": ["pushed(row, robot, place)", "joined(row, place)", "dropped(row, robot)"],
 }
 
 CLASSES = {
@@ -181,6 +209,28 @@ CLASSES = {
             "left(self, standing)",
             "most(self, standing)",
             "fitted(self, standing)",
+            "__eq__(self, other)",
+        ],
+    },
+    "ruleclasses": {
+        "Rule": [
+            "__init__(self, text)",
+            "way(self, view, figure=None)",
+            "reckon(self, view, figure=None)",
+            "shown(self)",
+            "told(self)",
+            "__eq__(self, other)",
+        ],
+    },
+    "runclasses": {
+        "Run": [
+            "__init__(self, row, rule, figure)",
+            "go(self, event)",
+            "do_all(self, events, keep=False)",
+            "undo(self, steps=1)",
+            "now(self)",
+            "done(self)",
+            "log(self)",
             "__eq__(self, other)",
         ],
     },

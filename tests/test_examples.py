@@ -38,7 +38,7 @@ class Examples(unittest.TestCase):
     def test_word_for_word(self):
         names = listed()
         examples = read_examples()
-        self.assertEqual(len(examples), 111)
+        self.assertEqual(len(examples), 117)
         for text, due in examples:
             with self.subTest(text):
                 if due is None:

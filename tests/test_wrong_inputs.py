@@ -10,6 +10,7 @@ from compassless.errors import NotUsable
 from compassless.floorclasses import Motion
 from compassless.ruletrees import HOUSE
 from tests.interface import FUNCTIONS, listed
+from tests.lotsamples import EAST
 from tests.samples import (
     BAD_INTEGERS,
     BAD_MOTIONS,
@@ -76,6 +77,26 @@ VIEW = (ZIG, NOT_VIEW)
 HELD_BOTH = params(standing=LARGE, figure=LARGE_FOUR)
 KEPT = params(fold=(2, NOT_FOLD), hats=(HATS, NOT_KEPT), goals=(((-4, 2), (4, -2)), NOT_KEPT + [((-1, 0), (1, 0)), ()]))
 HELD = params(figure=(LINE, NOT_HELD), fold=(2, NOT_FOLD + [4]), stance=(1, NOT_NUMBER + [2]), many=NUMBER)
+
+# Stages 15 to 18: rules, figures that may be None, and lots.
+NAMED = ("plus", ("num", 1), ("name", "a"))
+NAMES = ((("b", 2), ("a", -3)), [None, [], (), (("b", 2),), (("a", True),), (("a", 1), ("a", 1)), ("a", 1), (("a",),)])
+FIVE_TIMES = ("times", ("times", ("times", ("num", 1), ("num", 1)), ("num", 1)), ("times", ("num", 1), ("num", 1)))
+NOT_RULES = [None, True, 7, "", "else go east", (), list(EAST), EAST[:3], ("rule", (), (), ("along",)), ("num", 1)]
+NOT_RULES += [("rule", (), (), ("along", FIVE_TIMES, ("times", ("num", 1), ("num", 1)))), ("rule", [], (), ("stay",))]
+RULE = (EAST, NOT_RULES)
+ANY_FIGURE = (None, BAD_STANDINGS[1:])
+ROW4 = (ZIG[::-1], BAD_ROWS)
+NOT_ROBOT = BAD_INTEGERS + [-1, 4]
+NOT_LOT = [None, [], (None,), ((0, 0), (0, 1)), ((1, 0), (0, 0)), ((4, 0),), ((0, 4),), ((0, True),), "0", (0, 0)]
+NOT_ANY_LOT = [wrong for wrong in NOT_LOT if wrong != ((4, 0),)]
+LOT = (((0, 1), (2, 0)), NOT_LOT)
+LOTS = ((((3, 1),), ()), [None, [], "", 0, ((0, 0),)] + [(wrong,) for wrong in NOT_LOT])
+ANY_LOTS = ((((9, 1),), ()), [None, [], "", 0, ((0, 0),)] + [(wrong,) for wrong in NOT_ANY_LOT])
+NOT_ROBOTS = [None, [], 0, (0, 0), (1, 0), (4,), (-1,), (True,), ("0",), ((0, 0),)]
+RULED_ROW = params(row=ROW4, rule=RULE, figure=ANY_FIGURE)
+RULED = params(standing=STANDING, rule=RULE, figure=ANY_FIGURE)
+READING = params(rule=RULE, view=VIEW, figure=ANY_FIGURE)
 
 # For each function its parameters in their order: a value as stated, and others that are not.
 CALLS = {
@@ -175,13 +196,38 @@ CALLS = {
     "show_test": params(test=(SAME, NOT_TREES + [("neg", ("num", 1))])),
     "show_rule": params(rule=(HOUSE, NOT_TREES + [SAME, ("rule", (), (), ("house", 1))])),
     "word_of": params(word=("far", NOT_WORDS), view=VIEW, figure=(ELL, BAD_STANDINGS[1:])),
+    "number_of": params(num=(NAMED, NOT_TREES + [SAME]), names=NAMES, view=VIEW, figure=ANY_FIGURE),
+    "holds": params(test=(("eq", NAMED, NAMED), NOT_TREES + [NAMED]), names=NAMES, view=VIEW, figure=ANY_FIGURE),
+    "names_by": READING,
+    "way_of": READING,
+    "step_of": READING,
+    "all_lot": params(many=NUMBER, frame=TURN),
+    "lessened": params(turn=TURN, lots=ANY_LOTS),
+    "lot_line": params(lot=(((9, 1),), NOT_ANY_LOT)),
+    "lots_line": params(lots=ANY_LOTS),
+    "read_lots": params(many=NUMBER, text=("0 2:1; -", BAD_TEXTS)),
+    "step_in": RULED_ROW + params(robot=(3, NOT_ROBOT), frame=TURN),
+    "tick": RULED_ROW + params(lot=LOT),
+    "run_of": RULED_ROW + params(lots=LOTS),
+    "foe_lots": params(row=ROW4, figure=FIGURE, many=NUMBER),
+    "kept_run": params(row=ROW4, rule=RULE, figure=FIGURE, many=NUMBER),
+    "moves_of": RULED,
+    "single_of": RULED,
+    "course_of": params(standing=STANDING, rule=RULE, figure=FIGURE, many=NUMBER),
+    "foretold": params(standing=(TEE, BAD_STANDINGS), figure=FIGURE),
+    "needed": params(row=(TEE[::-1], BAD_ROWS), figure=FIGURE),
+    "stopped_at": params(row=(TEE[::-1], BAD_ROWS), figure=FIGURE, robots=((0, 3), NOT_ROBOTS)),
+    "late_start": params(row=ROW4),
+    "pushed": params(row=ROW4, robot=(3, NOT_ROBOT), place=((7, 7), BAD_PLACES + [(1, 0)])),
+    "joined": params(row=(ZIG[::-1], BAD_ROWS + [ELEVEN[:10]]), place=((7, 7), BAD_PLACES + [(1, 0)])),
+    "dropped": params(row=(ZIG[::-1], BAD_ROWS + [ELEVEN[:2]]), robot=(3, NOT_ROBOT)),
 }
 
 # These take any thing, or any number of arguments, or raise later, and have tests of their own.
 ELSEWHERE = (
     "is_place is_step is_motion is_row is_standing is_table is_partners is_kept "
     "is_num is_test is_way is_rule lets_row lets_bar lets_prices lets_rule "
-    "standing_of route_of fit_table field_standings"
+    "standing_of route_of fit_table field_standings is_lot is_event is_state lets_log happen"
 ).split()
 
 
@@ -251,6 +297,12 @@ class WrongInputs(unittest.TestCase):
             self.refused(call, "standing", names, [bad, bad, None])
         for bad in NOT_FOUR:
             self.refused(call, "figure", names, [ZIG, bad, None])
+        call = listed()["lets_log"]
+        names = [name for name, _, _ in CALLS["run_of"]] + ["thing"]
+        for k, (name, _, bads) in enumerate(CALLS["run_of"]):
+            for bad in bads:
+                goods = [good for _, good, _ in CALLS["run_of"]]
+                self.refused(call, name, names, goods[:k] + [bad] + [None] * (4 - k))
 
     def test_results_are_tuples(self):
         for name, wanted in CALLS.items():
@@ -261,7 +313,7 @@ class WrongInputs(unittest.TestCase):
 
     def check_tuples(self, found):
         for part in found:
-            self.assertIn(type(part), (int, str, bool, tuple))
+            self.assertIn(type(part), (int, str, bool, tuple, type(None)))
             if isinstance(part, tuple):
                 self.check_tuples(part)
 
