@@ -1,4 +1,4 @@
-"""What DOC.md's interface lists, as far as it has landed: file by file, name by name."""
+"""What DOC.md's interface lists: file by file, name by name."""
 
 import importlib
 
@@ -153,6 +153,38 @@ FUNCTIONS = {
         "happen(state, rule, figure, event)",
     ],
     "mends": ["pushed(row, robot, place)", "joined(row, place)", "dropped(row, robot)"],
+    "heaps": [
+        "is_heaped(thing)",
+        "heaped_by(*places)",
+        "heap_of(heaped)",
+        "fold_about(heaped, place)",
+        "heap_form(heaped, place)",
+    ],
+    "inwards": ["inward(place, other)"],
+    "meetings": [
+        "meets(standing)",
+        "meet_moves(heaped)",
+        "meet_tick(heaped, places)",
+        "meet_left(heaped)",
+        "meet_most(standing)",
+    ],
+    "meetfoes": ["meet_foe(row, rule, many)"],
+    "spans": [
+        "span_of(standing)",
+        "sector_of(standing, figure)",
+        "in_sector(g, place)",
+        "sector_turn(g, place)",
+    ],
+    "pairways": ["pair_way(standing, figure)", "meet_way(standing)"],
+    "pairsteps": ["pair_step(standing, figure, seen, taken)", "meet_step(standing, seen, taken)"],
+    "pairruns": ["pair_run(standing, figure, lots)", "meet_run(standing, lots)"],
+    "stands": ["stand_of(row)", "stand_turn(row)", "is_done(row, figure)"],
+    "nexts": ["nexts_of(row, rule, figure)", "stands_after(row, rule, figure)"],
+    "reaches": ["reach_of(row, rule, figure, limit)"],
+    "verdicts": ["verdict_of(row, rule, figure, limit)"],
+    "verdictchecker": ["lets_verdict(row, rule, figure, thing)"],
+    "rounds": ["rounds_of(many, lots)", "round_lots(many, rounds)"],
+    "desk": ["open_desk(text)"],
 }
 
 CLASSES = {
@@ -232,6 +264,14 @@ CLASSES = {
             "done(self)",
             "log(self)",
             "__eq__(self, other)",
+        ],
+    },
+    "desk": {
+        "Desk": [
+            "__init__(self)",
+            "do(self, line)",
+            "saved(self)",
+            "names(self)",
         ],
     },
 }

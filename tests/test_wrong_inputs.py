@@ -94,6 +94,24 @@ LOT = (((0, 1), (2, 0)), NOT_LOT)
 LOTS = ((((3, 1),), ()), [None, [], "", 0, ((0, 0),)] + [(wrong,) for wrong in NOT_LOT])
 ANY_LOTS = ((((9, 1),), ()), [None, [], "", 0, ((0, 0),)] + [(wrong,) for wrong in NOT_ANY_LOT])
 NOT_ROBOTS = [None, [], 0, (0, 0), (1, 0), (4,), (-1,), (True,), ("0",), ((0, 0),)]
+# Stages 19 to 22.
+CORNER = (((0, 0), 1), ((0, 1), 1), ((1, 0), 1))
+HEAPED = (CORNER, [None, [], (), list(CORNER), CORNER[::-1], CORNER[:1], (((0, 0), 2), ((1, 0), 2)), (((0, 0), True),)])
+NOT_PLACES_OF = [None, [], (None,), ((0, 1), (0, 0)), ((5, 5),), ((0, 0), (0, 0)), ((True, 0),), (0, 0), ""]
+NOT_PAIRS = BAD_STANDINGS + [BAR, ZIG]
+SLANT = (((0, 0), (1, 1)), NOT_PAIRS)
+EVEN = (((0, 0), (4, 2)), NOT_PAIRS + [((0, 0), (1, 1))])
+PAIR_FIGURE = (((0, 1), (3, 0)), NOT_PAIRS)
+# Of another kind there is no way.
+PAIR_GOAL = (((0, 1), (3, 0)), NOT_PAIRS + [((0, 0), (2, 0))])
+PAIR_LOTS = ((((0, 1),), ()), [None, [], "", ((0, 0),), (((2, 0),),), (((0, 4),),), (((1, 0), (0, 0)),)])
+G = ((3, -1), BAD_PLACES + [(0, 0)])
+SEEN = ((5, 1), BAD_PLACES)
+TAKEN = BAD_INTEGERS + [-1, 9]
+NOT_SHORT = BAD_ROWS + [ELEVEN[:5], ELEVEN[:10]]
+SHORT = (ZIG[::-1], NOT_SHORT)
+JUDGED = params(row=SHORT, rule=(("rule", (), (), ("stay",)), NOT_RULES), figure=FIGURE)
+NEXTS = params(row=(ELL[::-1], NOT_SHORT + [ZIG]), rule=RULE, figure=(BAR, [None] + BAD_STANDINGS + [ZIG]))
 RULED_ROW = params(row=ROW4, rule=RULE, figure=ANY_FIGURE)
 RULED = params(standing=STANDING, rule=RULE, figure=ANY_FIGURE)
 READING = params(rule=RULE, view=VIEW, figure=ANY_FIGURE)
@@ -221,13 +239,43 @@ CALLS = {
     "pushed": params(row=ROW4, robot=(3, NOT_ROBOT), place=((7, 7), BAD_PLACES + [(1, 0)])),
     "joined": params(row=(ZIG[::-1], BAD_ROWS + [ELEVEN[:10]]), place=((7, 7), BAD_PLACES + [(1, 0)])),
     "dropped": params(row=(ZIG[::-1], BAD_ROWS + [ELEVEN[:2]]), robot=(3, NOT_ROBOT)),
+    "heap_of": params(heaped=HEAPED),
+    "fold_about": params(heaped=HEAPED, place=PLACE),
+    "heap_form": params(heaped=HEAPED, place=PLACE),
+    "inward": params(place=PLACE, other=((5, 5), BAD_PLACES + [(3, -4)])),
+    "meets": params(standing=STANDING),
+    "meet_moves": params(heaped=HEAPED),
+    "meet_tick": params(heaped=HEAPED, places=(((0, 1), (1, 0)), NOT_PLACES_OF)),
+    "meet_left": params(heaped=HEAPED),
+    "meet_most": params(standing=(ELL, BAD_STANDINGS)),
+    "meet_foe": params(row=ROW4, rule=RULE, many=NUMBER),
+    "span_of": params(standing=SLANT),
+    "sector_of": params(standing=SLANT, figure=PAIR_FIGURE),
+    "in_sector": params(g=G, place=PLACE),
+    "sector_turn": params(g=G, place=((3, -4), BAD_PLACES + [(0, 0)])),
+    "pair_way": params(standing=SLANT, figure=PAIR_FIGURE),
+    "meet_way": params(standing=SLANT),
+    "pair_step": params(standing=SLANT, figure=PAIR_GOAL, seen=(SEEN[0], SEEN[1] + [(0, 0)]), taken=(0, TAKEN)),
+    "meet_step": params(standing=EVEN, seen=SEEN, taken=(0, TAKEN)),
+    "pair_run": params(standing=SLANT, figure=PAIR_GOAL, lots=PAIR_LOTS),
+    "meet_run": params(standing=EVEN, lots=PAIR_LOTS),
+    "stand_of": params(row=SHORT),
+    "stand_turn": params(row=SHORT),
+    "is_done": params(row=SHORT, figure=FIGURE),
+    "nexts_of": NEXTS,
+    "stands_after": JUDGED,
+    "reach_of": JUDGED + params(limit=(9, BAD_INTEGERS + [0, -1])),
+    "verdict_of": JUDGED + params(limit=(9, BAD_INTEGERS + [0, -1])),
+    "rounds_of": params(many=(2, NOT_MANY), lots=PAIR_LOTS),
+    "round_lots": params(many=(2, NOT_MANY), rounds=NUMBER),
 }
 
 # These take any thing, or any number of arguments, or raise later, and have tests of their own.
 ELSEWHERE = (
     "is_place is_step is_motion is_row is_standing is_table is_partners is_kept "
     "is_num is_test is_way is_rule lets_row lets_bar lets_prices lets_rule "
-    "standing_of route_of fit_table field_standings is_lot is_event is_state lets_log happen"
+    "standing_of route_of fit_table field_standings is_lot is_event is_state lets_log happen "
+    "is_heaped heaped_by lets_verdict open_desk"
 ).split()
 
 
