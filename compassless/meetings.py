@@ -56,13 +56,15 @@ def inward_moves(heaped, middle):
     aways = [(x - middle[0], y - middle[1]) for x, y in others if measure((x, y), middle) == least]
     away = max([(turn_pair(turn, pair), pair) for pair in aways])[1]
     fold = find_fold_about(heaped, middle)
-    movers = [find_goal((middle, pair)) for pair in (spin(fold, away) if fold > 1 else [away])]
+    spun = spin(fold, away) if fold > 1 else [away]
+    movers = [find_goal((middle, pair)) for pair in spun]
     return tuple(sorted([(place, find_inward(place, middle)) for place in movers]))
 
 
 def nearest_pair(places):
     """The least distance of two of the places, and the least pair that has it."""
-    return min([(measure(place, other), place, other) for place, other in combinations(places, 2)])
+    spots = list(places)
+    return min([(measure(place, other), place, other) for place, other in combinations(spots, 2)])
 
 
 def uneven_meet_move(standing):

@@ -116,6 +116,11 @@ def all_heaped():
     found = [heaped_by(*standing) for standing in SAMPLES] + [CORNER, HEAPED, ALONE]
     for many in range(2, 11):
         found += [heaped_by(*draw_heaped(rng, many)) for _ in range(20)]
+    # A leader so far away that nothing is wanted of it, east, north, west or south of the others.
+    for many in (3, 4, 5, 8, 10):
+        for turn in range(4):
+            places = rng.sample([(x, y) for x in range(6) for y in range(4)], many - 1)
+            found.append(heaped_by(*[turned(turn, place) for place in places + [(200 + many, rng.randint(0, 3))]]))
     # Standings that keep a turn about the heap.
     found += [heaped_by(*RING, (1, 1), (1, 1)), heaped_by(*PLUS, (1, 1)), heaped_by((0, 0), (2, 2), (1, 1), (1, 1))]
     found += [heaped_by((0, 0), (4, 0), *[(2, 0)] * 8), heaped_by((1, 0), (0, 1), (3, 3), *[(0, 0)] * 3)]
@@ -219,9 +224,11 @@ class Meetings(unittest.TestCase):
                     continue
                 heaped, ticks = heaped_by(*standing), 0
                 while len(heaped) > 1:
-                    starts = [place for place, _ in meet_moves(heaped)]
-                    some = rng.sample(starts, rng.randint(1, len(starts)))
+                    moves, left = meet_moves(heaped), meet_left(heaped)
+                    self.assertEqual((moves, left), (expected_moves(heaped), expected_left(heaped)))
+                    some = rng.sample([place for place, _ in moves], rng.randint(1, len(moves)))
                     heaped = meet_tick(heaped, tuple(sorted(some)))
+                    self.assertLess(meet_left(heaped), left)
                     ticks += 1
                 self.assertEqual((heaped[0][1], meet_left(heaped)), (many, DONE))
                 self.assertLessEqual(ticks, meet_most(standing))

@@ -174,6 +174,10 @@ class Courses(unittest.TestCase):
                     row = tick(row, rule, figure, draw_lot(rng, many))
                     at += standing_by(row) != log[at]
                     self.assertEqual(standing_by(row), log[at])
+                if word == "rest":
+                    # Behind it nothing changes.
+                    for _ in range(9):
+                        self.assertEqual(tick(row, rule, figure, draw_lot(rng, many)), row)
                 for come in log[: -1 if word == "rest" else None]:
                     self.assertEqual(class_of(come), UNEVEN)
 

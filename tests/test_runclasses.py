@@ -6,8 +6,9 @@ import unittest
 from compassless.errors import Clash, InvalidEvent, NothingToUndo, NotUsable
 from compassless.floorclasses import Motion
 from compassless.forms import alike
+from compassless.lots import lessened
 from compassless.mends import dropped, joined, pushed
-from compassless.motions import carried
+from compassless.motions import carried, carried_row, moved
 from compassless.readings import read_rule
 from compassless.ruletrees import HOUSE
 from compassless.runclasses import Run
@@ -222,7 +223,35 @@ class Many(unittest.TestCase):
         self.assertEqual((log, type(run.log())), ((ROW,), tuple))
 
 
+def carried_event(motion, event):
+    """The event with its frames and places carried likewise."""
+    head, *given = event
+    if head == "tick":
+        return (head, *lessened(motion[0], (given[0],)))
+    return (head, *[moved(motion, part) if isinstance(part, tuple) else part for part in given])
+
+
 class Runs(unittest.TestCase):
+    def test_carried(self):
+        # (G8): a live run is carried, if the frames and places of its events are.
+        rng = random.Random(81)
+        for _ in range(60):
+            row, rule, motion = draw_row(rng), draw_any_rule(rng), (rng.randint(0, 3), rng.randint(-9, 9), 4)
+            figure = draw_figure(rng, len(row))
+            run, other = Run(row, rule, figure), Run(carried_row(motion, row), rule, figure)
+            for _ in range(12):
+                event = draw_event(rng, run.now())
+                try:
+                    run.go(event)
+                except InvalidEvent as error:
+                    with self.assertRaises(InvalidEvent) as caught:
+                        other.go(carried_event(motion, event))
+                    self.assertEqual(caught.exception.reason, error.reason)
+                else:
+                    other.go(carried_event(motion, event))
+            self.assertEqual(other.log(), tuple(carried_row(motion, come) for come in run.log()))
+            self.assertIs(other.done(), run.done())
+
     def test_equal(self):
         run, same = Run(ROW, EAST, ELL), Run(ROW, EAST, ELL)
         self.assertIs(run == same, True)

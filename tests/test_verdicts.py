@@ -42,12 +42,26 @@ MORE = [
 ]
 
 
+WAYS = ("east", "north", "along(sumx, sumy)", "along(-sumx, -sumy)", "along(sumy, -sumx)", "house", "stay")
+TESTS = ("far < 3", "done = 0", "rank = 0", "rank = 1", "seen(1, 0) = 1", "seen(0, 1) = 0", "near(1) = 0", "wide < high")
+TESTS += ("near(2) < many - 1", "twins = 1", "far <= 2", "2 < far", "sumx = 0", "sumx < sumy")
+
+
+def draw_small_rule(rng):
+    """A rule of one to three lines of these tests and ways."""
+    lines = []
+    for _ in range(rng.randint(1, 3)):
+        tests = " and ".join(rng.sample(TESTS, rng.randint(1, 3)))
+        lines.append(f"when {tests} go {rng.choice(WAYS)}")
+    return read_rule("\n".join(lines))
+
+
 def cases(seed, times, most=4):
     """Rows, rules and figures with a reach of at most 60."""
     rng = random.Random(seed)
     while times:
         row = draw_short_row(rng, most)
-        rule, figure = rng.choice(CLOSE + MORE + [rng.choice(RULES)]), draw_same(rng, row)
+        rule, figure = rng.choice(CLOSE + MORE + [rng.choice(RULES), draw_small_rule(rng)] * 5), draw_same(rng, row)
         try:
             reach = reach_of(row, rule, figure, 60)
         except TooMany:
@@ -208,6 +222,22 @@ class Verdicts(unittest.TestCase):
         paper = verdict_of(((0, 0), (1, 0)), read_rule("else go along(sumx, sumy)"), PAIR, 1)
         self.assertEqual((paper[:2], len(paper[2])), (("no", "clash"), 1))
 
+    def test_rings_of_several_stands(self):
+        # One robot can be woken in such a ring only at other stands than the others.
+        go = "when rank = 0 and far <= 2 go along(sumy, -sumx)"
+        both = "when far < 3 go along(-sumx, -sumy)\nwhen rank = 0 and wide < high go east\n"
+        both += "when far <= 2 and seen(0, 1) = 0 and wide < high go north"
+        for text, row, figure in (
+            (go, ((1, 1), (1, 0), (0, 1)), ((0, 0), (2, 0), (2, 1))),
+            (go.replace("and", "and twins = 1 and"), ((2, 0), (1, 1), (2, 1)), ((0, 1), (1, 1), (2, 2))),
+            (both, ((2, 0), (0, 0), (0, 1)), ((0, 2), (1, 2), (2, 2))),
+        ):
+            rule = read_rule(text)
+            paper = verdict_of(row, rule, figure, 60)
+            self.assertEqual(paper[:2], ("no", "ring"))
+            self.assertEqual(lets_verdict(row, rule, figure, paper), "no")
+            self.assertFalse(is_won(row, rule, figure, reach_of(row, rule, figure, 60)))
+
     def test_too_many(self):
         for _, row, rule, figure, reach in cases(95, 40):
             if len(reach) > 1:
@@ -360,6 +390,7 @@ class Checker(unittest.TestCase):
         things += [("no", "ring", (), [lot]), ("no", "ring", (), (lot,), ()), ("no", "clash", ((),)), ("no", "leaves", (lot, ()))]
         things += [("no", "ring", ((),), (lot,)), ("no", "ring", (), ((),)), ("no", "clash", (((2, 0),),)), ("no", "yes", (lot,))]
         things += [("no", "clash", (((0, 4),),)), ("no", "clash", (((1, 0), (0, 0)),)), ("no", ["clash"], (lot,)), ("no", 0, ())]
+        things += [("maybe", "clash", (lot,)), ("yes", "clash", (lot,)), ("yes", "ring", (), (lot,)), ("no", (line,))]
         things += [("no", "clash", None), ("no", "ring", (lot,)), (["yes"], (line,)), Motion(0, 0, 0), ("yes", Motion(0, 0, 0))]
         for thing in things:
             self.assertEqual(self.judged(PAIR, STAY, PAIR, thing), ("shape", -1), thing)
